@@ -62,6 +62,60 @@ func TestShowOfRepeatedPieces(t *testing.T) {
 	}
 }
 
+// P1: what Patch answers has one of the forms that P4 tells, and is the same
+// whenever it is asked.
+func wantPatchForm(t *testing.T, a string, d string) {
+	t.Helper()
+	text, err, line := Patch(a, d)
+	again, errAgain, lineAgain := Patch(a, d)
+	if text != again || err != errAgain || line != lineAgain {
+		t.Errorf("Patch(%.60q, %.200q) answers two things", a, d)
+	}
+	switch err {
+	case api.OK:
+		_, errShow, _ := Show(text)
+		if errShow != api.OK || line != 0 {
+			t.Errorf("Patch(%.60q, %.200q) = %q, OK, %d", a, d, text, line)
+		}
+	case api.ErrScript:
+		if text != "" || line < 1 || line > strings.Count(d, "\n")+1 {
+			t.Errorf("Patch(%.60q, %.200q) = %q, ErrScript, %d", a, d, text, line)
+		}
+	case api.ErrLong, api.ErrSyntax, api.ErrDeep, api.ErrBig, api.ErrProgram:
+		if text != "" || line != 0 {
+			t.Errorf("Patch(%.60q, %.200q) = %q, %d, %d", a, d, text, err, line)
+		}
+	default:
+		t.Errorf("Patch(%.60q, %.200q) answers the error %d", a, d, err)
+	}
+}
+
+func TestPatchOfAnyStrings(t *testing.T) {
+	script := "i 8 0 1 @group\ni 9 0 0 '\\x28\ni 9 2 0 '\\x29\nr 3 '\\x20g\nd 15\ni 0 1 0 '\n"
+	for at := 0; at <= len(script); at++ {
+		wantPatchForm(t, "void f(){a;}", script[:at])
+		wantPatchForm(t, "void f(){a;}", script[at:])
+		for c := 0; c < 256; c++ {
+			wantPatchForm(t, "void f(){a;}", script[:at]+string([]byte{byte(c)})+script[at:])
+		}
+	}
+	wantPatch(t, "void f(){a;}", script, "void g(){(a);}")
+}
+
+func TestPatchOfRepeatedPieces(t *testing.T) {
+	pieces := []string{"\n", " ", "x", "0", "'", "@", "\\x", "\x00", "\xff", "d 1\n", "d 2\n", "r 1 @\n", "r 1 '\n", "r 1 'x\n", "i 0 0 0 @\n", "i 0 0 1 @\n", "i 1 0 0 @\n", "i 0 0 0 '\n", "i 0 1 0 'x\n"}
+	for _, a := range []string{"", "void f(){}", sample, "@", strings.Repeat("(", 100000)} {
+		for _, head := range []string{"", "d ", "r 1 ", "r 1 @", "r 1 '", "i 0 0 0 @\n", "i 0 0 "} {
+			for _, piece := range pieces {
+				for _, count := range []int{1, 2, 17, 80, 800, 1500, 9000, 100000} {
+					wantPatchForm(t, a, head+strings.Repeat(piece, count))
+					wantPatchForm(t, a, head+strings.Repeat(piece, count)+"\n")
+				}
+			}
+		}
+	}
+}
+
 // P1 holds for the other calls too: each ends, at all strings.
 func TestOtherCallsEnd(t *testing.T) {
 	for _, text := range []string{"", sample, "@", "\x00", strings.Repeat("(", 100000)} {
@@ -69,7 +123,5 @@ func TestOtherCallsEnd(t *testing.T) {
 		Dist(sample, text)
 		Diff(text, sample)
 		Diff(sample, text)
-		Patch(text, "d 1\n")
-		Patch(sample, text)
 	}
 }

@@ -19,4 +19,21 @@ func Dist(a string, b string) (int, api.Errno) { return 0, api.OK }
 func Diff(a string, b string) (string, api.Errno) { return "", api.OK }
 
 // Patch: what a script makes of a program (P4).
-func Patch(a string, d string) (string, api.Errno, int) { return "", api.OK, 0 }
+func Patch(a string, d string) (string, api.Errno, int) {
+	nodes, err, _ := read(a)
+	if err != api.OK {
+		return "", err, 0
+	}
+	if len(d) > api.MaxScript {
+		return "", api.ErrLong, 0
+	}
+	made, line := carryOut(nodes, d)
+	if line > 0 {
+		return "", api.ErrScript, line
+	}
+	text := leafText(made)
+	if !isTreeOf(made, text) {
+		return "", api.ErrProgram, 0
+	}
+	return text, api.OK, 0
+}
