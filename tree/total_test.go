@@ -116,11 +116,60 @@ func TestPatchOfRepeatedPieces(t *testing.T) {
 	}
 }
 
-// P1 holds for the other calls too: each ends, at all strings.
-func TestOtherCallsEnd(t *testing.T) {
+// P1: what Dist answers has one of the forms that P5 tells, and is the same
+// whenever it is asked.
+func wantDistForm(t *testing.T, a string, b string) {
+	t.Helper()
+	steps, err := Dist(a, b)
+	again, errAgain := Dist(a, b)
+	if steps != again || err != errAgain {
+		t.Errorf("Dist(%.60q, %.60q) answers two things", a, b)
+	}
+	from, want, _ := Show(a)
+	to, errShow, _ := Show(b)
+	if want == api.OK {
+		want = errShow
+	}
+	if want != api.OK {
+		wantDistError(t, a, b, want)
+		return
+	}
+	fromNodes, toNodes := strings.Count(from, " "), strings.Count(to, " ")
+	if err != api.OK || steps < max(fromNodes-toNodes, toNodes-fromNodes) || steps > fromNodes+toNodes {
+		t.Errorf("Dist(%.60q, %.60q) = %d, %d", a, b, steps, err)
+	}
+}
+
+func TestDistOfAnyStrings(t *testing.T) {
+	program := "void f(){a;}"
+	for at := 0; at <= len(program); at++ {
+		wantDistForm(t, program[:at], program[at:])
+		for c := 0; c < 256; c++ {
+			spoiled := program[:at] + string([]byte{byte(c)}) + program[at:]
+			wantDistForm(t, program, spoiled)
+			wantDistForm(t, spoiled, program)
+		}
+	}
+}
+
+func TestDistOfRepeatedPieces(t *testing.T) {
+	for _, piece := range []string{"(", "{", ";", "{;}", "-a;", "a+b;", "/*", "//", "\n", "int f(){}", "\x00", "\xff"} {
+		for _, count := range []int{1, 2, 8, 17, 80, 600, 100000} {
+			text := strings.Repeat(piece, count)
+			for _, a := range []string{text, "void f(){" + text + "}"} {
+				wantDistForm(t, a, a)
+				for _, b := range []string{"", "@", sample, strings.Repeat("(", 100000)} {
+					wantDistForm(t, a, b)
+					wantDistForm(t, b, a)
+				}
+			}
+		}
+	}
+}
+
+// P1 holds for Diff too: it ends, at all strings.
+func TestDiffEnds(t *testing.T) {
 	for _, text := range []string{"", sample, "@", "\x00", strings.Repeat("(", 100000)} {
-		Dist(text, sample)
-		Dist(sample, text)
 		Diff(text, sample)
 		Diff(sample, text)
 	}

@@ -13,7 +13,17 @@ func Show(s string) (string, api.Errno, int) {
 }
 
 // Dist: the fewest steps from one program to another (P5).
-func Dist(a string, b string) (int, api.Errno) { return 0, api.OK }
+func Dist(a string, b string) (int, api.Errno) {
+	from, err, _ := read(a)
+	if err != api.OK {
+		return 0, err
+	}
+	to, err, _ := read(b)
+	if err != api.OK {
+		return 0, err
+	}
+	return fewestSteps(from, to), api.OK
+}
 
 // Diff: a script of as many steps (P6).
 func Diff(a string, b string) (string, api.Errno) { return "", api.OK }
