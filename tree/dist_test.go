@@ -28,11 +28,14 @@ func wantDistError(t *testing.T, a string, b string, err api.Errno) {
 	}
 }
 
-func TestDistOfPrograms(t *testing.T) {
-	for _, c := range []struct {
-		a, b  string
-		steps int
-	}{
+// Two programs, and the fewest steps between them.
+type stepsBetween struct {
+	a, b  string
+	steps int
+}
+
+func programsApart() []stepsBetween {
+	return []stepsBetween{
 		{"", "", 0},
 		{"", " ", 1},
 		{" ", "\t", 1},
@@ -51,16 +54,11 @@ func TestDistOfPrograms(t *testing.T) {
 		{"void f(){}", "void f(int a){}", 3},
 		{"void f(int a){}", "void f(int a,int b){}", 4},
 		{"void f(int a,char b){}", "void f(char b,int a){}", 4},
-	} {
-		wantDist(t, c.a, c.b, c.steps)
 	}
 }
 
-func TestDistOfStatements(t *testing.T) {
-	for _, c := range []struct {
-		a, b  string
-		steps int
-	}{
+func statementsApart() []stepsBetween {
+	list := []stepsBetween{
 		{";", "", 2},
 		{";", ";;", 2},
 		{"a;", "(a);", 3},
@@ -95,14 +93,52 @@ func TestDistOfStatements(t *testing.T) {
 		{"x=a;", "x=b(c);", 5},
 		{"f(a,b,c);", "f(a,g(),c);", 4},
 		{"f(a,b,c);", "f(a,-1,c);", 3},
-	} {
-		a, _ := within(c.a, "")
-		b, _ := within(c.b, "")
-		wantDist(t, a, b, c.steps)
+	}
+	for k, c := range list {
+		list[k].a, _ = within(c.a, "")
+		list[k].b, _ = within(c.b, "")
+	}
+	return list
+}
+
+// Programs that just keep within the bounds.
+func boundsApart() []stepsBetween {
+	const function = "void f(){}"
+	deep := "void f(){" + strings.Repeat("{", 18) + strings.Repeat("}", 18) + "}"
+	big := "void f(){" + strings.Repeat(";", 35) + "}"
+	long := strings.Repeat(" ", api.MaxText)
+	return []stepsBetween{
+		{function, deep, 18 * 3},
+		{function, big, 35 * 2},
+		{"", big, 8 + 35*2},
+		{"", long, 1},
+		{function, function + long[len(function):], 1},
+		{big, big + "\n", 1},
+		{big, strings.Replace(big, ";", " ;", -1), 35},
+		{deep, strings.Replace(deep, "{", " {", -1), 19},
+		{deep, strings.Replace(deep, "{", "{;", 1), 2},
 	}
 }
 
-func TestDistErrors(t *testing.T) {
+func TestDist(t *testing.T) {
+	for _, c := range programsApart() {
+		wantDist(t, c.a, c.b, c.steps)
+	}
+	for _, c := range statementsApart() {
+		wantDist(t, c.a, c.b, c.steps)
+	}
+	for _, c := range boundsApart() {
+		wantDist(t, c.a, c.b, c.steps)
+	}
+}
+
+// Two texts, one of them at least no program, and the error that is told.
+type wrongPair struct {
+	a, b string
+	err  api.Errno
+}
+
+func wrongPairs() []wrongPair {
 	deep := "void f(){" + strings.Repeat("{", 19) + strings.Repeat("}", 19) + "}"
 	big := "void f(){" + strings.Repeat(";", 36) + "}"
 	long := strings.Repeat(" ", api.MaxText+1)
@@ -110,31 +146,19 @@ func TestDistErrors(t *testing.T) {
 		text string
 		err  api.Errno
 	}{{long, api.ErrLong}, {"x", api.ErrSyntax}, {deep, api.ErrDeep}, {big, api.ErrBig}}
+	var list []wrongPair
 	for _, w := range wrong {
-		wantError(t, w.text, w.err, max(0, strings.Index(w.text, "x")))
-		wantDistError(t, w.text, "", w.err)
-		wantDistError(t, w.text, w.text, w.err)
-		wantDistError(t, "", w.text, w.err)
-		wantDistError(t, "void f(){}", w.text, w.err)
+		list = append(list, wrongPair{w.text, "", w.err}, wrongPair{"", w.text, w.err})
+		list = append(list, wrongPair{"void f(){}", w.text, w.err})
 		for _, other := range wrong {
-			wantDistError(t, w.text, other.text, w.err)
+			list = append(list, wrongPair{w.text, other.text, w.err})
 		}
 	}
+	return list
 }
 
-// Programs that just keep within the bounds.
-func TestDistAtTheBounds(t *testing.T) {
-	const function = "void f(){}"
-	deep := "void f(){" + strings.Repeat("{", 18) + strings.Repeat("}", 18) + "}"
-	big := "void f(){" + strings.Repeat(";", 35) + "}"
-	long := strings.Repeat(" ", api.MaxText)
-	wantDist(t, function, deep, 18*3)
-	wantDist(t, function, big, 35*2)
-	wantDist(t, "", big, 8+35*2)
-	wantDist(t, "", long, 1)
-	wantDist(t, function, function+long[len(function):], 1)
-	wantDist(t, big, big+"\n", 1)
-	wantDist(t, big, strings.Replace(big, ";", " ;", -1), 35)
-	wantDist(t, deep, strings.Replace(deep, "{", " {", -1), 19)
-	wantDist(t, deep, strings.Replace(deep, "{", "{;", 1), 2)
+func TestDistErrors(t *testing.T) {
+	for _, w := range wrongPairs() {
+		wantDistError(t, w.a, w.b, w.err)
+	}
 }

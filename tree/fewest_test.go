@@ -174,14 +174,17 @@ func (m *maker) near(a string) string {
 	return a + "\n"
 }
 
-func TestDistOfMadePrograms(t *testing.T) {
+func TestDistAndDiffOfMadePrograms(t *testing.T) {
 	for k := 0; k < 400; k++ {
 		m := &maker{seed: uint32(k)}
 		a, b := m.sound(), m.sound()
-		wantDist(t, a, a, 0)
-		wantDist(t, a, b, reckoned(t, a, b))
 		near := m.near(a)
-		wantDist(t, a, near, reckoned(t, a, near))
+		list := []stepsBetween{{a, b, reckoned(t, a, b)}, {a, near, reckoned(t, a, near)}}
+		for _, c := range list {
+			wantDist(t, c.a, c.b, c.steps)
+		}
+		wantDist(t, a, a, 0)
+		wantDiffBothWays(t, list)
 	}
 }
 

@@ -1,5 +1,7 @@
 package tree
 
+import "strconv"
+
 // A step as its line tells it. What a kind of step has no word for is zero.
 type step struct {
 	kind  string // "r", "d" or "i"
@@ -7,6 +9,19 @@ type step struct {
 	first int    // I
 	count int    // N
 	label node   // its depth means nothing: that is told by where it is put
+}
+
+// The line that readStep reads as the step, with the line feed that ends it.
+func (s step) line() string {
+	out := s.kind + " " + strconv.Itoa(s.at)
+	if s.kind == "i" {
+		out += " " + strconv.Itoa(s.first)
+		out += " " + strconv.Itoa(s.count)
+	}
+	if s.kind != "d" {
+		out += " " + s.label.label()
+	}
+	return out + "\n"
 }
 
 // Whether the line is a step says nothing yet of the tree it is meant for.

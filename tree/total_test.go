@@ -140,37 +140,52 @@ func wantDistForm(t *testing.T, a string, b string) {
 	}
 }
 
-func TestDistOfAnyStrings(t *testing.T) {
+// P1: what Diff answers has one of the forms that P6 tells, and is the same
+// whenever it is asked.
+func wantDiffForm(t *testing.T, a string, b string) {
+	t.Helper()
+	script, err := Diff(a, b)
+	again, errAgain := Diff(a, b)
+	if script != again || err != errAgain {
+		t.Errorf("Diff(%.60q, %.60q) answers two things", a, b)
+	}
+	steps, want := Dist(a, b)
+	if want != api.OK {
+		wantDiffError(t, a, b, want)
+		return
+	}
+	wantDiff(t, a, b, steps)
+}
+
+func TestDistAndDiffOfAnyStrings(t *testing.T) {
 	program := "void f(){a;}"
 	for at := 0; at <= len(program); at++ {
 		wantDistForm(t, program[:at], program[at:])
+		wantDiffForm(t, program[:at], program[at:])
 		for c := 0; c < 256; c++ {
 			spoiled := program[:at] + string([]byte{byte(c)}) + program[at:]
 			wantDistForm(t, program, spoiled)
 			wantDistForm(t, spoiled, program)
+			wantDiffForm(t, program, spoiled)
+			wantDiffForm(t, spoiled, program)
 		}
 	}
 }
 
-func TestDistOfRepeatedPieces(t *testing.T) {
+func TestDistAndDiffOfRepeatedPieces(t *testing.T) {
 	for _, piece := range []string{"(", "{", ";", "{;}", "-a;", "a+b;", "/*", "//", "\n", "int f(){}", "\x00", "\xff"} {
 		for _, count := range []int{1, 2, 8, 17, 80, 600, 100000} {
 			text := strings.Repeat(piece, count)
 			for _, a := range []string{text, "void f(){" + text + "}"} {
 				wantDistForm(t, a, a)
+				wantDiffForm(t, a, a)
 				for _, b := range []string{"", "@", sample, strings.Repeat("(", 100000)} {
 					wantDistForm(t, a, b)
 					wantDistForm(t, b, a)
+					wantDiffForm(t, a, b)
+					wantDiffForm(t, b, a)
 				}
 			}
 		}
-	}
-}
-
-// P1 holds for Diff too: it ends, at all strings.
-func TestDiffEnds(t *testing.T) {
-	for _, text := range []string{"", sample, "@", "\x00", strings.Repeat("(", 100000)} {
-		Diff(text, sample)
-		Diff(sample, text)
 	}
 }

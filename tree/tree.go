@@ -14,11 +14,7 @@ func Show(s string) (string, api.Errno, int) {
 
 // Dist: the fewest steps from one program to another (P5).
 func Dist(a string, b string) (int, api.Errno) {
-	from, err, _ := read(a)
-	if err != api.OK {
-		return 0, err
-	}
-	to, err, _ := read(b)
+	from, to, err := readBoth(a, b)
 	if err != api.OK {
 		return 0, err
 	}
@@ -26,7 +22,25 @@ func Dist(a string, b string) (int, api.Errno) {
 }
 
 // Diff: a script of as many steps (P6).
-func Diff(a string, b string) (string, api.Errno) { return "", api.OK }
+func Diff(a string, b string) (string, api.Errno) {
+	from, to, err := readBoth(a, b)
+	if err != api.OK {
+		return "", err
+	}
+	return fewestScript(from, to), api.OK
+}
+
+func readBoth(a string, b string) ([]node, []node, api.Errno) {
+	from, err, _ := read(a)
+	if err != api.OK {
+		return nil, nil, err
+	}
+	to, err, _ := read(b)
+	if err != api.OK {
+		return nil, nil, err
+	}
+	return from, to, api.OK
+}
 
 // Patch: what a script makes of a program (P4).
 func Patch(a string, d string) (string, api.Errno, int) {
