@@ -69,8 +69,8 @@ func TestDiffOfOneStep(t *testing.T) {
 	}
 }
 
-// Scripts for programs that have next to nothing in common, of as many nodes
-// and bytes as there may be, each byte one that takes four to write.
+// Scripts for programs that have little in common, of 64 to 80 nodes and as
+// many bytes as there may be, most of them bytes that take four to write.
 func TestDiffOfLongScripts(t *testing.T) {
 	flat := "void f(){" + strings.Repeat(";", 35) + "}"
 	deep := "int g(){" + strings.Repeat("{", 13) + "a=b=c=d=1;" + strings.Repeat("}", 13) + "}"
